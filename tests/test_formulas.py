@@ -2,11 +2,21 @@
 
 import itertools
 
-from tests.helper import Case, Maker, ask, depth, drop, holds, last, link, plain_where, reduce, so, state, tell
-from tests.helper import together, tree, truth
+from tests.helper import Case, Maker, again, ask, chain, depth, drop, holds, last, link, minds, plain_where, reduce, show
+from tests.helper import so, state, tell, together, tree, truth, whisper
 
 ONE = [state(0), so(1)]
-ASKED = (holds, truth, reduce, tell)
+
+
+def whisper_to_a(formula):
+    return whisper(0, formula)
+
+
+def show_a(formula):
+    return show(0, formula)
+
+
+ASKED = (holds, truth, reduce, tell, whisper_to_a, show_a, again, chain, minds)
 
 
 def nested(sign, deep):
@@ -100,7 +110,8 @@ class Depths(Case):
                 self.assertEqual(depth(tree(nested(sign, 40))), 40)
                 self.assertNotIn(last(ONE + [call(nested(sign, 40))]), ([-1], [-2]), sign)
                 self.assertEqual(last(ONE + [call(nested(sign, 41))]), [-2], sign)
-            self.assertEqual(last(ONE + [tell(nested(sign, 41))]), [-2], sign)
+            for call in ASKED:
+                self.assertEqual(last(ONE + [call(nested(sign, 41))]), [-2], sign)
 
     def test_deep_in_both_or_in_one_part_alone(self):
         deep = nested("~f", 40)
@@ -132,7 +143,7 @@ class Depths(Case):
         self.assertEqual(last([holds("[" + "~" * 60 + "0]")]), [-1])
 
     def test_refused_formula_is_told_ahead_of_none_is_so(self):
-        for call in (truth, tell):
+        for call in (truth, tell, whisper_to_a, again, chain, minds):
             self.assertEqual(last([state(0), call("8")]), [-1])
             self.assertEqual(last([state(0), call(nested("~f", 41))]), [-2])
             self.assertEqual(last([state(0), call("T")]), [-7])

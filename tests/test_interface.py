@@ -5,9 +5,14 @@ import contextlib
 import io
 import unittest.mock
 
-from tests.helper import GREATEST, LEAST, Case, Maker, ask, cut, drop, flat, holds, link, reduce, so, state, tell
-from tests.helper import together, truth, unlink
+from tests.helper import GREATEST, LEAST, Case, Maker, again, alike, ask, chain, cut, drop, flat, holds, least, link, minds
+from tests.helper import model, reduce, show, so, state, tell, together, truth, undo, unlink, whisper
 from whoknows.model import answers
+
+
+WITH_FORMULA = (holds, truth, reduce, tell, again, chain, minds)
+KINDS = ((state, link, link, link, link, link, unlink, drop, so, so) + WITH_FORMULA
+         + (holds, whisper, whisper, show, show, alike, alike, least, undo, undo, undo, model, model))
 
 
 def long_line(seed):
@@ -18,15 +23,16 @@ def long_line(seed):
     while len(calls) < 400:
         numbers = [maker.random.choice([0, 1, 2, 3, 4, 5, 6, 7, 8, 9, LEAST, GREATEST, -1]) for each in range(3)]
         formula = maker.formula(4)[:maker.random.choice([60, 60, 60, 5])]
-        kinds = [state, link, link, link, link, link, unlink, drop, so, so, holds, truth, reduce, tell]
-        kind = maker.random.choice(kinds)
-        if kind in (holds, truth, reduce, tell):
+        kind = maker.random.choice(KINDS)
+        if kind in WITH_FORMULA:
             reduced += kind == reduce
             calls.append((holds if reduced > 60 and kind == reduce else kind)(formula))
-        elif kind in (link, unlink):
-            calls.append(kind(*numbers))
+        elif kind in (whisper, show):
+            calls.append(kind(numbers[0] % 6, formula))
+        elif kind in (least, undo, model):
+            calls.append(kind())
         else:
-            calls.append(kind(numbers[0]))
+            calls.append(kind(*numbers[:{state: 1, drop: 1, so: 1, alike: 2}.get(kind, 3)]))
     return calls
 
 
@@ -41,8 +47,20 @@ class Lists(Case):
     def test_numbers_that_look_like_calls(self):
         self.assertEqual(answers([0, 0, 4, 1, 5, 1, 84, 3, 1]), [2, 0, 1, 1, 0, 2, 0, 1, 1, 0])
 
+    def test_later_calls_stand_behind_their_counts(self):
+        made = [0, 1, 0, 0, 1, 0, 1, 2, 1, 1, 1, 1, 4, 1]
+        given = [2, 0, 1, 2, 0, 2, 1, 0, 1, 0, 1, 0]
+        self.assertEqual(answers(made), given)
+        self.assertEqual(answers(made + [9, 0, 1, 48, 16]), given + [2, 0, 3, 1, 0])
+        self.assertEqual(answers(made + [10, 0, 1, 48, 11, 1, 84]), given + [2, 0, 1, 3, 0, 0, 2])
+        self.assertEqual(answers(made + [12, 1, 2, 12, 2, 2]), given + [4, 0, 0, 0, 48, 2, 0, 1])
+        self.assertEqual(answers(made + [13, 14, 1, 48, 15, 1, 48]), given + [2, 0, 2, 3, 0, 0, 2, 5, 0, 2, 1, 3, 3])
+        self.assertEqual(answers(made + [17, 16]),
+                         given + [14, 0, 1, 2, 1, 1, 2, 0, 2, 0, 1, 2, 1, 1, 1, 1, -12])
+
     def test_empty_texts_between_calls(self):
-        self.told([holds(""), truth(""), reduce(""), tell(""), state(0)], [[-1], [-1], [-1], [-1], [0, 1]])
+        self.told([holds(""), truth(""), reduce(""), tell(""), whisper(0, ""), show(0, ""), again(""), chain(""), minds(""),
+                   state(0)], [[-1]] * 9 + [[0, 1]])
 
     def test_four_hundred_calls(self):
         self.told([state(0), so(1)] + [truth("T")] * 398, [[0, 1], [0]] + [[0, 1]] * 398)
@@ -56,15 +74,16 @@ class Lists(Case):
     def test_wide_range_of_numbers(self):
         for number in (LEAST, GREATEST):
             self.told([state(number), link(number, 1, 1), link(0, number, number), unlink(number, number, number),
-                       drop(number), so(number)], [[-1], [-1], [-4], [-6], [-4], [-4]])
+                       drop(number), so(number), whisper(number, "T"), show(number, "T"), alike(number, number)],
+                      [[-1], [-1], [-4], [-6], [-4], [-4], [-1], [-1], [-4]])
 
     def test_refusals_are_one_number(self):
         for seed in range(30):
             for answer in ask(long_line(seed)):
-                self.assertTrue(answer[0] == 0 or len(answer) == 1 and -10 <= answer[0] <= -1, answer)
+                self.assertTrue(answer[0] == 0 or len(answer) == 1 and -12 <= answer[0] <= -1, answer)
 
     def test_refusals_change_nothing(self):
-        """A line answers the same without the calls that it refuses."""
+        """A line answers the same without the calls that it refuses, those of undo and model too."""
         for seed in range(30):
             calls = long_line(seed)
             found = ask(calls)

@@ -162,6 +162,65 @@ class Language(unittest.TestCase):
                     if each.func.attr in ("append", "pop", "extend", "insert", "remove", "clear", "update"):
                         self.assertNotIn(ast.unparse(each.func.value), walked_names, f"{name}: {each.lineno}")
 
+    def test_keywords(self):
+        """L22."""
+        allowed = {"sorted": ("key", "reverse"), "min": ("key", "default"), "max": ("key", "default"), "sum": ("start",),
+                   "enumerate": ("start",), "zip": ("strict",)}
+        for name, node in walked(ast.Call):
+            if node.keywords:
+                self.assertIsInstance(node.func, ast.Name, f"{name}: {node.lineno}")
+                for each in node.keywords:
+                    self.assertIn(each.arg, allowed.get(node.func.id, ()), f"{name}: {node.lineno}")
+
+    def test_own_names_are_called_where_they_stand(self):
+        """L18, L22: neither classes nor Python's own names are kept as values."""
+        classes = {node.name for name, node in walked(ast.ClassDef)}
+        for path, module in parsed():
+            fine = []
+            for node in ast.walk(module):
+                if isinstance(node, ast.Call):
+                    fine.append(node.func)
+                    if isinstance(node.func, ast.Name) and node.func.id == "isinstance":
+                        fine += list(ast.walk(node.args[1]))
+                elif isinstance(node, ast.ClassDef):
+                    fine += node.bases
+            for node in ast.walk(module):
+                if isinstance(node, ast.Name) and node.id in classes | set(OWN_NAMES):
+                    self.assertIn(node, fine, f"{path.name}: {node.lineno}: {node.id}")
+
+    def test_walked_on_the_spot(self):
+        """L23, L24."""
+        takers = ("list", "tuple", "dict", "sorted", "sum", "any", "all", "enumerate", "zip", "min", "max")
+        for path, module in parsed():
+            fine = []
+            for node in ast.walk(module):
+                if isinstance(node, (ast.For, ast.comprehension)):
+                    fine.append(node.iter)
+                if isinstance(node, ast.Call) and isinstance(node.func, ast.Name) and node.func.id in takers:
+                    fine += node.args[:1]
+            for node in ast.walk(module):
+                if isinstance(node, ast.Call):
+                    name = node.func.id if isinstance(node.func, ast.Name) else node.func.attr
+                    self.assertNotIn(name, ("set", "frozenset"))
+                    if name in ("zip", "enumerate", "reversed", "range", "items", "keys", "values"):
+                        self.assertIn(node, fine, f"{path.name}: {node.lineno}")
+
+    def test_names_of_a_top_are_only_read(self):
+        """L15: a list or dict there holds none itself, and no def changes it."""
+        for path, module in parsed():
+            kept = {}
+            for node in module.body:
+                if isinstance(node, ast.Assign):
+                    kept[node.targets[0].id] = ast.literal_eval(node.value)
+            for value in kept.values():
+                inner = value.values() if isinstance(value, dict) else value if isinstance(value, (list, tuple)) else ()
+                self.assertFalse(any(isinstance(each, (list, dict)) for each in inner))
+            for node in ast.walk(module):
+                if isinstance(node, (ast.Attribute, ast.Subscript)) and isinstance(node.value, ast.Name):
+                    if node.value.id in kept:
+                        self.assertIsInstance(node.ctx, ast.Load)
+                        self.assertIsInstance(node, ast.Subscript)
+
 
 if __name__ == "__main__":
     unittest.main()

@@ -16,7 +16,8 @@ class View:
 
     def __init__(self, masks, links):
         self.numbers = list(masks)
-        self.whole = (1 << len(masks)) - 1
+        self.masks = list(masks.values())
+        self.all_states = (1 << len(masks)) - 1
         self.atoms = [states_with(masks, atom) for atom in range(ATOMS)]
         # For each agent, and for the state at each place, the states that it takes for possible there.
         self.possible = [[0] * len(masks) for agent in range(AGENTS)]
@@ -76,7 +77,7 @@ class Walk:
 
     def __init__(self, view):
         self.view = view
-        self.only = view.whole
+        self.only = view.all_states
         self.pending = []
         self.value = 0
 

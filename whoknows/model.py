@@ -1,143 +1,42 @@
-"""A model of what is so and who takes what for possible, and the calls on it."""
+"""The calls on one model, one behind another."""
 
-from whoknows.holding import states_where
-from whoknows.reading import codes_of, depth_of, signs_of
-from whoknows.reducing import reduced, tells_common
+from whoknows.changes import again, least, show, tell, whisper
+from whoknows.questions import alike, chain, holds, minds, reduction, truth
+from whoknows.reading import depth_of, signs_of
+from whoknows.refusals import TOO_DEEP, WRONG
+from whoknows.states import Model, is_agent_number
 
 STATE = 0
 LINK = 1
 UNLINK = 2
 DROP = 3
+SO = 4
 HOLDS = 5
 TRUTH = 6
 REDUCE = 7
+TELL = 8
+WHISPER = 9
+SHOW = 10
+AGAIN = 11
+ALIKE = 12
+LEAST = 13
+CHAIN = 14
+MINDS = 15
+UNDO = 16
 
-# How many whole numbers each call has, by its number; those from holds on have a formula behind them.
-NUMBERS = (1, 3, 3, 1, 1, 0, 0, 0, 0)
+# How many whole numbers each call has, by its number.
+NUMBERS = (1, 3, 3, 1, 1, 0, 0, 0, 0, 1, 1, 0, 2, 0, 0, 0, 0, 0)
 
-WRONG = -1
-TOO_DEEP = -2
-NO_ROOM = -3
-NO_STATE = -4
-LINKED = -5
-NOT_LINKED = -6
-NONE_IS_SO = -7
-COMMON_TOLD = -8
-TOO_LARGE = -9
-NOT_SO = -10
-
-MASKS = 256
-AGENTS = 4
-MOST_STATES = 16
-MOST_LINKS = 200
 DEEPEST = 40
 
 
-class Model:
-    """The states with their masks, the links, and which state is so (0: none)."""
-
-    def __init__(self):
-        # States come in the order of their numbers, so a walk through masks is in that order too.
-        self.masks = {}
-        self.links = {}
-        self.actual = 0
-        self.last_number = 0
-
-    def state(self, mask):
-        """Makes a new state."""
-        if not 0 <= mask < MASKS:
-            return [WRONG]
-        if len(self.masks) >= MOST_STATES:
-            return [NO_ROOM]
-        self.last_number = self.last_number + 1
-        self.masks[self.last_number] = mask
-        return [0, self.last_number]
-
-    def link(self, agent, start, end):
-        """Lets the agent take the state end for possible in the state start."""
-        if not 0 <= agent < AGENTS:
-            return [WRONG]
-        if start not in self.masks or end not in self.masks:
-            return [NO_STATE]
-        if (agent, start, end) in self.links:
-            return [LINKED]
-        if len(self.links) >= MOST_LINKS:
-            return [NO_ROOM]
-        self.links[(agent, start, end)] = True
-        return [0]
-
-    def unlink(self, agent, start, end):
-        """Takes a link away."""
-        if (agent, start, end) not in self.links:
-            return [NOT_LINKED]
-        self.links.pop((agent, start, end))
-        return [0]
-
-    def drop(self, number):
-        """Takes a state away."""
-        if number not in self.masks:
-            return [NO_STATE]
-        self.keep_only([other for other in self.masks if other != number])
-        return [0]
-
-    def so(self, number):
-        """Tells which state is so."""
-        if number not in self.masks:
-            return [NO_STATE]
-        self.actual = number
-        return [0]
-
-    def holds(self, signs):
-        """Tells where the formula holds."""
-        return [0] + self.where(signs)
-
-    def truth(self, signs):
-        """Tells whether the formula holds in the state that is so."""
-        if self.actual == 0:
-            return [NONE_IS_SO]
-        return [0, 1 if self.actual in self.where(signs) else 0]
-
-    def tell(self, signs):
-        """Keeps only the states where the formula holds."""
-        if self.actual == 0:
-            return [NONE_IS_SO]
-        left = self.where(signs)
-        if self.actual not in left:
-            return [NOT_SO]
-        self.keep_only(left)
-        return [0, len(left)]
-
-    def where(self, signs):
-        """The states in which the formula holds."""
-        return states_where(self.masks, self.links, signs)
-
-    def keep_only(self, numbers):
-        """Keeps only these states, in order, and the links between them."""
-        masks_left = {}
-        for number in numbers:
-            masks_left[number] = self.masks[number]
-        links_left = {}
-        for agent, start, end in self.links:
-            if start in masks_left and end in masks_left:
-                links_left[(agent, start, end)] = True
-        self.masks = masks_left
-        self.links = links_left
-        if self.actual not in masks_left:
-            self.actual = 0
-
-
-def reduce_answer(signs):
-    """Answers the formula reduced."""
-    if tells_common(signs):
-        return [COMMON_TOLD]
-    shorter = reduced(signs)
-    if shorter is None:
-        return [TOO_LARGE]
-    return [0] + codes_of(shorter)
+def has_formula(call):
+    """Whether the call has a formula behind its whole numbers."""
+    return call in (HOLDS, TRUTH, REDUCE, TELL, WHISPER, SHOW, AGAIN, CHAIN, MINDS)
 
 
 def number_answer(model, call, numbers):
-    """Answers a call that has whole numbers alone."""
+    """Answers a call that has no formula."""
     if call == STATE:
         return model.state(numbers[0])
     if call == LINK:
@@ -146,23 +45,57 @@ def number_answer(model, call, numbers):
         return model.unlink(numbers[0], numbers[1], numbers[2])
     if call == DROP:
         return model.drop(numbers[0])
-    return model.so(numbers[0])
+    if call == SO:
+        return model.so(numbers[0])
+    if call == ALIKE:
+        return alike(model, numbers[0], numbers[1])
+    if call == LEAST:
+        return least(model)
+    if call == UNDO:
+        return model.undo()
+    return model.whole()
 
 
-def formula_answer(model, call, codes):
-    """Answers a call that has a formula."""
+def formula_answer(model, call, numbers, codes):
+    """Answers a call that has a formula; of whole numbers it has none, or an agent alone."""
+    if not all([is_agent_number(agent) for agent in numbers]):
+        return [WRONG]
     signs = signs_of(codes)
     if signs is None:
         return [WRONG]
     if depth_of(signs) > DEEPEST:
         return [TOO_DEEP]
+    if call == WHISPER:
+        return whisper(model, numbers[0], signs)
+    if call == SHOW:
+        return show(model, numbers[0], signs)
+    if call == TELL:
+        return tell(model, signs)
+    if call == AGAIN:
+        return again(model, signs)
+    return question_answer(model, call, signs)
+
+
+def question_answer(model, call, signs):
+    """Answers a call that has a formula and changes nothing."""
     if call == HOLDS:
-        return model.holds(signs)
+        return holds(model, signs)
     if call == TRUTH:
-        return model.truth(signs)
+        return truth(model, signs)
     if call == REDUCE:
-        return reduce_answer(signs)
-    return model.tell(signs)
+        return reduction(signs)
+    if call == CHAIN:
+        return chain(model, signs)
+    return minds(model, signs)
+
+
+def remember(model, call, before):
+    """Keeps for undo what the model was before an accepted call."""
+    if call in (TELL, WHISPER, SHOW, AGAIN, LEAST):
+        model.past.append(before)
+    elif call in (STATE, LINK, UNLINK, DROP, SO):
+        # Undo takes nothing back from before the model was made otherwise.
+        model.past = []
 
 
 def answers(calls):
@@ -174,12 +107,16 @@ def answers(calls):
         call = calls[place]
         start = place + 1
         place = start + NUMBERS[call]
-        if call < HOLDS:
-            answer = number_answer(model, call, calls[start:place])
-        else:
+        numbers = calls[start:place]
+        before = model.as_it_is()
+        if has_formula(call):
             start = place + 1
             place = start + calls[place]
-            answer = formula_answer(model, call, calls[start:place])
+            answer = formula_answer(model, call, numbers, calls[start:place])
+        else:
+            answer = number_answer(model, call, numbers)
+        if answer[0] == 0:
+            remember(model, call, before)
         given.append(len(answer))
         given.extend(answer)
     return given
